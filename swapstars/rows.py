@@ -1,7 +1,7 @@
 """Rows of exchanges: their orders, parts and holes, and the least ones."""
 
-from swapstars.errors import Apart
-from swapstars.orders import plain, rounds
+from swapstars.errors import Apart, NotGreat
+from swapstars.orders import great, plain, rounds
 from swapstars.whole import is_between
 
 MOST_EXCHANGES = 60
@@ -62,6 +62,15 @@ def holes(n, row):
 def is_least(n, row):
     """Whether no row of fewer exchanges leads to the order of the row."""
     return len(row) == n - len(rounds(led(n, row)))
+
+
+def check_great(row):
+    """Refuse what is no least row of the great round of one thing more than it has exchanges."""
+    n = len(row) + 1
+    # No row of fewer exchanges leads there: so one that does is least, and
+    # has no thing beyond n.
+    if led(n, row) != great(n):
+        raise NotGreat("the row is no least row of the great round")
 
 
 def star(order):

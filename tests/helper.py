@@ -51,6 +51,49 @@ def end_of(thing, row):
     return thing
 
 
+def hangs_on(order, a):
+    """All things to which the order leads a, over and over."""
+    found = [a]
+    while order[found[-1] - 1] != a:
+        found.append(order[found[-1] - 1])
+    return found
+
+
+def some_least_rows(order, many):
+    """Some least rows of the order, the same ones each time: rounds are cut until each thing is alone."""
+    chance = random.Random(len(order))
+    rows = []
+    for at in range(many):
+        row, left = [], order
+        while left != tuple(sorted(left)):
+            a, b = chance.choice([pair for pair in exchanges(len(order)) if pair[1] in hangs_on(left, pair[0])])
+            left = tuple([{a: b, b: a}.get(thing, thing) for thing in left])
+            row.insert(0, (a, b))
+        rows.append(row)
+    return rows
+
+
+def order_of(n, row):
+    """The order of a row of n things, thing by thing."""
+    return tuple([end_of(thing, row) for thing in range(1, n + 1)])
+
+
+def great_rows(n):
+    """All least rows of the great round of n things, by going through all rows."""
+    due = tuple(list(range(2, n + 1)) + [1])
+    return [row for row in all_rows(n, n - 1) if order_of(n, row) == due]
+
+
+# Rows of 12 things that are no least row of the great round of one thing more than they have exchanges.
+NOT_GREAT = [
+    [(1, 3)], [(2, 3)], [(1, 12)], [(11, 12)], [(1, 2), (1, 2)], [(1, 3), (1, 2)], [(1, 2), (2, 3)], [(1, 2), (3, 4)],
+    [(1, 2), (1, 4)], [(2, 3), (2, 4)], [(1, 2)] * 3, [(1, 2), (1, 3), (1, 3), (1, 3)], [(1, 2), (1, 3), (1, 5)],
+    [(2, 3), (2, 4), (2, 5)], [(1, thing) for thing in range(12, 1, -1)], [(1, thing) for thing in range(2, 12)] * 2,
+    [(1, thing) for thing in range(3, 13)], [(1, thing) for thing in range(2, 13)] + [(1, 2)], [(1, 2)] * 11,
+    [(1, 2)] * 12, [(1, 2)] * 59, [(1, 2)] * 60, exchanges(12)[:11], exchanges(12)[:60],
+]
+
+
 def lists_in(thing):
     """All lists within a thing, itself too."""
     found = [thing] if isinstance(thing, list) else []
@@ -94,6 +137,17 @@ def check_refused(case, name, call, *handed):
     due = [other for other in REFUSALS if isinstance(refusal, getattr(errors, other))]
     case.assertEqual(due, [name])
     case.assertEqual(handed, before)
+
+
+def check_great_only(case, call):
+    """All rows but the least ones of the great round are refused with NotGreat."""
+    for row in NOT_GREAT:
+        check_refused(case, "NotGreat", call, row)
+    for many in range(4):
+        due = great_rows(many + 1)
+        for row in all_rows(5, many):
+            if row not in due:
+                check_refused(case, "NotGreat", call, row)
 
 
 def check_truth(case, due, told):

@@ -5,7 +5,7 @@ from itertools import product
 
 from swapstars.orders import back, great, is_order, made, plain, rounds, then
 from swapstars.rows import holes, home, is_least, is_row, led, parts, star
-from tests.helper import (ODD_THINGS, all_rows, check_own, check_refused, check_truth, end_of, exchanges, orders,
+from tests.helper import (ODD_THINGS, all_rows, check_own, check_refused, check_truth, exchanges, order_of, orders,
                           some_orders, some_rows)
 
 
@@ -71,7 +71,7 @@ class TheOrderOfARow(unittest.TestCase):
             for row in rows:
                 order = led(n, row)
                 check_truth(self, True, is_order(order))
-                self.assertEqual(order, tuple([end_of(thing, row) for thing in range(1, n + 1)]))
+                self.assertEqual(order, order_of(n, row))
 
     def test_sixty_exchanges(self):
         self.assertEqual(led(2, [(1, 2)] * 60), (1, 2))
