@@ -1,4 +1,4 @@
-"""What a whole number is."""
+"""Whole numbers: what they are, and products of them."""
 
 
 def is_whole(thing):
@@ -10,3 +10,19 @@ def is_whole(thing):
 def is_between(thing, low, high):
     """Whether any thing is a whole number from low to high."""
     return is_whole(thing) and low <= thing <= high
+
+
+def power(base, times):
+    """The number taken so many times with itself, 1 for no time."""
+    told = 1
+    for step in range(times):
+        told *= base
+    return told
+
+
+def factorial(n):
+    """The product of the numbers from 1 to n."""
+    told = 1
+    for number in range(2, n + 1):
+        told *= number
+    return told

@@ -9,6 +9,9 @@ from swapstars import errors
 REFUSALS = ["Unlike", "NoRounds", "Apart", "NoMove", "NotLeast", "NotGreat",
             "NoTree", "NoCars", "NoChain", "NoBound", "NoText", "NoName"]
 
+# Whole numbers far off all bounds.
+FAR_OFF = [10 ** 9, 10 ** 29, -10 ** 9, -10 ** 29]
+
 # Things of every sort that are no order and no row of anything.
 ODD_THINGS = [
     None, True, False, 0, 1, -1, 10 ** 29, "", "1", "(1)", "1-2", "none", (), ((),), ([],),
