@@ -99,11 +99,11 @@ def exchange_between(one, other):
     return tuple([thing for thing, led_to in enumerate(change, start=1) if thing != led_to])
 
 
-def row_of_chain(chain):
+def row_of_chain(sharings):
     """The only least row of the great round that has this chain as its beginnings."""
-    if not is_chain(chain):
+    if not is_chain(sharings):
         raise NoChain("the sharings are no chain")
-    return [exchange_between(one, other) for one, other in zip(chain, chain[1:])]
+    return [exchange_between(one, other) for one, other in zip(sharings, sharings[1:])]
 
 
 def grown(sharing, thing):

@@ -26,3 +26,8 @@ def factorial(n):
     for number in range(2, n + 1):
         told *= number
     return told
+
+
+def ways_to_choose(n, k):
+    """In how many ways k of n things can be chosen."""
+    return factorial(n) // (factorial(k) * factorial(n - k))

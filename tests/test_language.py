@@ -102,6 +102,8 @@ class EachFile(unittest.TestCase):
                 self.assertNotIsInstance(node.value, (float, complex, type(...)))
                 if isinstance(node.value, str):
                     self.assertNotIn("%", node.value)
+            if isinstance(node, ast.BinOp) and isinstance(node.op, ast.Pow):
+                self.assertIsInstance(node.right, ast.Constant)
             if isinstance(node, (ast.For, ast.While)):
                 self.assertEqual(node.orelse, [])
             if isinstance(node, ast.arguments):
